@@ -1,0 +1,159 @@
+"""Points [1] to [3] for all calls: the interface, the kinds of results, and that nothing is changed."""
+
+import copy
+import importlib
+import inspect
+import pathlib
+import unittest
+
+from tests.samples import busy_web, hub, layered_web, line_web, random_web
+
+# Each function of the interface so far, with the names of its arguments.
+INTERFACE = {
+    "webs": {
+        "check_web": "web", "ring_of": "web", "buys_of": "web house", "sells_of": "web house",
+    },
+    "texts": {"write_web": "web", "read_web": "text"},
+    "choices": {
+        "choose": "web house offered", "mentioned": "choice", "least_break": "web house",
+        "least_unsteady": "web house", "is_sound": "web", "is_steady": "web",
+    },
+    "networks": {
+        "is_kept": "web network", "droppings": "web network", "trades": "web house network",
+        "lot_gains": "web network lot", "barring": "web network lot", "likes": "web house one other",
+    },
+    "chains": {
+        "is_chain": "web contracts", "gaining_chain": "web network", "gaining_chains": "web network",
+        "chain_within": "web network lot",
+    },
+    "offers": {
+        "told_offers": "web network", "judge": "web network offers", "verdict": "web network",
+        "is_at_rest": "web network",
+    },
+    "stands": {
+        "next_stand": "web stand", "is_settled": "web stand", "network_of": "stand", "best_for_buyers": "web",
+        "best_for_sellers": "web", "join": "web one other", "meet": "web one other",
+    },
+}
+ERRORS = ("ContractError", "InvalidWeb", "NotSound", "BadText", "NoHouse", "NoContract", "NoLetter",
+          "NothingToUndo", "NothingToRedo")
+
+
+def fixed(value):
+    """True if the value is made of tuples, strings, integers, True, False and None alone."""
+    if isinstance(value, tuple):
+        return all(fixed(item) for item in value)
+    return value is None or isinstance(value, (str, int, bool))
+
+
+def calls(web):
+    """All functions on a sound web, with arguments for each."""
+    many = len(web[1])
+    everything, half = tuple(range(many)), tuple(range(0, many, 2))
+    rest = tuple(range(1, many, 2))
+    house = 0
+    choice = web[0][house][1]
+    texts = importlib.import_module("nochaingains.texts")
+    stands = importlib.import_module("nochaingains.stands")
+    top, bottom = stands.best_for_buyers(web), stands.best_for_sellers(web)
+    network = stands.network_of(top)
+    values = {
+        "web": (web,), "house": (house,), "text": (texts.write_web(web),), "offered": ((), half, everything),
+        "choice": (choice,), "network": ((), half, network), "lot": (rest,), "one": (half, network),
+        "other": (rest, network), "contracts": (half, everything[:1]), "offers": ((), everything, network),
+        "stand": ((half, rest), top, bottom),
+    }
+    for module, functions in INTERFACE.items():
+        for name, words in functions.items():
+            function = getattr(importlib.import_module("nochaingains." + module), name)
+            if name in ("join", "meet"):
+                yield function, (web, top, bottom)
+                continue
+            if name == "chain_within":
+                continue
+            rows = [()]
+            for word in words.split():
+                rows = [row + (value,) for row in rows for value in values[word]]
+            for row in rows:
+                yield function, row
+
+
+class InterfaceTest(unittest.TestCase):
+    def test_functions_and_their_arguments(self):
+        for module, functions in INTERFACE.items():
+            loaded = importlib.import_module("nochaingains." + module)
+            for name, words in functions.items():
+                with self.subTest(module + "." + name):
+                    function = getattr(loaded, name)
+                    self.assertEqual(" ".join(inspect.signature(function).parameters), words)
+                    self.assertEqual(function.__module__, "nochaingains." + module)
+
+    def test_errors_are_defined_in_their_file(self):
+        loaded = importlib.import_module("nochaingains.errors")
+        for name in ERRORS:
+            self.assertEqual(getattr(loaded, name).__module__, "nochaingains.errors")
+
+    def test_tests_stand_beside_the_package(self):
+        folder = pathlib.Path(importlib.import_module("nochaingains").__file__).parent
+        self.assertTrue((folder / "__init__.py").is_file())
+        self.assertEqual(list(folder.glob("**/test*")), [])
+
+
+class KindsOfResultsTest(unittest.TestCase):
+    def test_results_are_fixed_and_arguments_unchanged(self):
+        webs = [random_web(seed, 4, 5) for seed in range(12)] + [busy_web(seed, 4, 5) for seed in range(6)]
+        for web in webs + [line_web()]:
+            for function, row in calls(web):
+                before = copy.deepcopy(row)
+                result = function(*row)
+                self.assertTrue(fixed(result), (function.__name__, result))
+                self.assertEqual(row, before)
+                self.assertEqual(function(*before), result)
+
+    def test_keywords(self):
+        for function, row in calls(line_web()):
+            names = list(inspect.signature(function).parameters)
+            self.assertEqual(function(**dict(zip(names, row))), function(*row))
+
+    def test_true_and_false(self):
+        names = ("is_sound", "is_steady", "is_kept", "lot_gains", "likes", "is_chain", "judge", "is_at_rest",
+                 "is_settled")
+        for function, row in calls(busy_web(3, 4, 5)):
+            self.assertEqual(isinstance(function(*row), bool), function.__name__ in names)
+
+    def test_sets_are_in_order(self):
+        names = ("choose", "told_offers", "network_of", "buys_of", "sells_of", "mentioned")
+        webs = [random_web(seed, 4, 6) for seed in range(10)] + [layered_web(seed, 5, 4, 40) for seed in range(3)]
+        for web in webs:
+            for function, row in calls(web):
+                if function.__name__ == "gaining_chains":
+                    continue
+                if function.__name__ in names:
+                    result = function(*row)
+                    self.assertEqual(list(result), sorted(set(result)))
+                if function.__name__ in ("next_stand", "best_for_buyers", "best_for_sellers", "join", "meet"):
+                    self.assertEqual(len(function(*row)), 2)
+                    for part in function(*row):
+                        self.assertEqual(list(part), sorted(set(part)))
+
+
+class BoundsTest(unittest.TestCase):
+    def test_a_web_of_many_kinds(self):
+        web = layered_web(5, 10, 3, 60)
+        for function, row in calls(web):
+            if function.__name__ != "gaining_chains":
+                function(*row)
+
+    def test_many_groups_and_parts(self):
+        groups = tuple((tuple(range(k % 30 + 1)), 20) for k in range(40))
+        sellgroups = tuple((tuple(range(30, 31 + k % 30)), 20) for k in range(40))
+        caps = ("caps", tuple(range(30)), groups, tuple(range(30, 60)), sellgroups)
+        parts = tuple(("caps", tuple(range(3 * k, 3 * k + 3)), groups[4 * k:4 * k + 4], (), ()) for k in range(9))
+        for choice in (caps, ("split", parts)):
+            for function, row in calls(hub(30, 30, choice)):
+                if function.__name__ not in ("least_break", "least_unsteady", "gaining_chains"):
+                    function(*row)
+
+
+if __name__ == "__main__":
+    unittest.main()
