@@ -1,7 +1,5 @@
 """What a house chooses, what a choice mentions, and whether choices hold together."""
 
-from itertools import combinations
-
 from nochaingains.shapes import mentioned_in, parts_in
 
 
@@ -123,7 +121,7 @@ def _least_over_parts(web, house, search):
 
 
 def _part_break(part, contracts, house):
-    for offered, extra, before, after in _growths(part, contracts):
+    for offered, extra, before, after in _growths(part):
         for contract in offered:
             if (contracts[contract][1] == house) == (contracts[extra][1] == house):
                 against = contract not in before and contract in after
@@ -135,7 +133,7 @@ def _part_break(part, contracts, house):
 
 
 def _part_unsteady(part, contracts, house):
-    for offered, extra, before, after in _growths(part, contracts):
+    for offered, extra, before, after in _growths(part):
         more_buys = _many_buys(after, contracts, house) - _many_buys(before, contracts, house)
         more_sells = len(after) - len(before) - more_buys
         if contracts[extra][1] == house:
@@ -151,20 +149,38 @@ def _many_buys(chosen, contracts, house):
     return len([contract for contract in chosen if contracts[contract][1] == house])
 
 
-def _growths(part, contracts):
-    """All (Y, z, chosen out of Y, chosen out of Y with z) of mentioned contracts, the least first."""
-    own = list(mentioned_in(part))
-    chosen = {}
-    for size in range(len(own) + 1):
-        for offered in combinations(own, size):
-            chosen[offered] = _chosen_by(part, contracts, offered)
-    rows = []
-    for offered in chosen:
-        for extra in own:
-            if extra not in offered:
-                grown = tuple(sorted(offered + (extra,)))
-                rows.append((offered, extra, chosen[offered], chosen[grown]))
-    return rows
+def _growths(table):
+    """The (Y, z, row out of Y, other row out of Y with z) among which the least breaks are, the least first.
+
+    If z brings another row, it does so as well where Y has no more than the two
+    rows without z. So one Y for each two rows and z is enough, however many
+    contracts the table mentions.
+    """
+    _, rows = table
+    own = mentioned_in(table)
+    bits = {contract: 1 << place for place, contract in enumerate(own)}
+    # The empty row, which lies within every set, is the worst one.
+    ranked = list(rows) + [()]
+    masks = [sum([bits[contract] for contract in row]) for row in ranked]
+    found = []
+    for after, mask in enumerate(masks):
+        for before in range(after + 1, len(masks)):
+            together = mask | masks[before]
+            if _first_within(masks, together) != after:
+                continue
+            for extra in ranked[after]:
+                left = together - bits[extra]
+                if extra not in ranked[before] and _first_within(masks, left) == before:
+                    offered = tuple([contract for contract in own if left & bits[contract]])
+                    found.append((len(offered), offered, extra, ranked[before], ranked[after]))
+    return [row[1:] for row in sorted(found)]
+
+
+def _first_within(masks, offered):
+    for place, mask in enumerate(masks):
+        if mask & offered == mask:
+            return place
+    return None
 
 
 def is_sound(web):

@@ -14,3 +14,11 @@ def common(one, other):
 def minus(one, other):
     """What is in the first set and not in the second one."""
     return tuple(sorted(set(one) - set(other)))
+
+
+def subsets(contracts):
+    """All sets of contracts that lie within a set, in a list."""
+    found = [()]
+    for contract in contracts:
+        found = found + [row + (contract,) for row in found]
+    return found

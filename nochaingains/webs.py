@@ -51,6 +51,13 @@ def sells_of(web, house):
     return tuple([number for number, (seller, _, _) in enumerate(contracts) if seller == house])
 
 
+def with_choice(web, house, choice):
+    """The web in which the house has this choice."""
+    houses, contracts = web
+    name, _ = houses[house]
+    return (houses[:house] + ((name, choice),) + houses[house + 1:], contracts)
+
+
 def ring_of(web):
     """A ring of sales as a tuple of contracts, or None if there is none."""
     houses, contracts = web

@@ -26,6 +26,15 @@ def line_web():
     return ((farm, mill, shop), ((0, 1, 5), (1, 2, 9)))
 
 
+def two_rests():
+    """Two sellers and two buyers with opposite wishes: two networks at rest."""
+    houses = (
+        ("a", ("sides", 0, (), 1, (0, 1))), ("b", ("sides", 0, (), 1, (3, 2))),
+        ("c", ("sides", 1, (2, 0), 0, ())), ("d", ("sides", 1, (1, 3), 0, ())),
+    )
+    return (houses, ((0, 2, 5), (0, 3, 5), (1, 2, 5), (1, 3, 5)))
+
+
 def name_of(house):
     letters = "abcdefghijklmnopqrstuvwxyz"
     return "h" + letters[house // 26] + letters[house % 26]

@@ -241,6 +241,22 @@ class BreaksTest(unittest.TestCase):
         self.assertEqual(least_break(web, 0), ((40,), 59, 40))
         self.assertFalse(is_sound(web))
 
+    def test_tables_that_mention_more_contracts(self):
+        rng = Random(4)
+        found = set()
+        for _ in range(40):
+            many = rng.randint(4, 14)
+            rows = {tuple(sorted(rng.sample(range(10), rng.randint(1, 3)))) for _ in range(many)}
+            web = hub(*rng.choice(((10, 0), (6, 4))), ("table", tuple(rng.sample(sorted(rows), len(rows)))))
+            self.assertEqual(least_break(web, 0), first_break(web, 0))
+            self.assertEqual(least_unsteady(web, 0), first_unsteady(web, 0))
+            found.add(least_unsteady(web, 0) is None)
+        self.assertEqual(found, {True, False})
+        wide = additive_table(rng, list(range(18)), 2)
+        self.assertIsNone(least_break(hub(30, 30, wide), 0))
+        self.assertTrue(is_steady(hub(60, 0, ("table", tuple((k,) for k in range(60))))))
+        self.assertEqual(least_break(hub(60, 0, ("table", tuple((k, k + 1) for k in range(59)))), 0), ((0,), 1, 0))
+
     def test_the_bounds(self):
         rows = additive_table(Random(1), list(range(9)), 3)
         self.assertTrue(is_steady(hub(9, 0, rows)))

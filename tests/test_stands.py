@@ -10,7 +10,7 @@ from nochaingains.stands import (
 )
 from nochaingains.webs import buys_of, sells_of
 from tests import brute
-from tests.samples import FREE, busy_web, double_line, layered_web, line_web, random_web
+from tests.samples import FREE, busy_web, double_line, layered_web, line_web, random_web, two_rests
 
 
 def settled_of(web):
@@ -29,15 +29,6 @@ def small_webs(many, contracts=4):
     for seed in range(many):
         yield random_web(seed, 4, contracts)
         yield busy_web(seed, 3, contracts)
-
-
-def market_web():
-    """Two sellers and two buyers with opposite wishes: two networks at rest."""
-    houses = (
-        ("a", ("sides", 0, (), 1, (0, 1))), ("b", ("sides", 0, (), 1, (3, 2))),
-        ("c", ("sides", 1, (2, 0), 0, ())), ("d", ("sides", 1, (1, 3), 0, ())),
-    )
-    return (houses, ((0, 2, 5), (0, 3, 5), (1, 2, 5), (1, 3, 5)))
 
 
 class StandsTest(unittest.TestCase):
@@ -66,7 +57,7 @@ class StandsTest(unittest.TestCase):
             self.assertEqual(meet(web, nothing, nothing), nothing)
 
     def test_two_networks_at_rest(self):
-        web = market_web()
+        web = two_rests()
         self.assertEqual(best_for_buyers(web), ((0, 1, 2, 3), (1, 2)))
         self.assertEqual(best_for_sellers(web), ((0, 3), (0, 1, 2, 3)))
         self.assertEqual(network_of(best_for_buyers(web)), (1, 2))

@@ -34,7 +34,27 @@ INTERFACE = {
         "next_stand": "web stand", "is_settled": "web stand", "network_of": "stand", "best_for_buyers": "web",
         "best_for_sellers": "web", "join": "web one other", "meet": "web one other",
     },
+    "allofthem": {"all_at_rest": "web", "all_settled": "web"},
+    "comings": {
+        "without": "web house", "balance": "web house network", "end_buyers": "web", "end_sellers": "web",
+    },
+    "markets": {"replayed": "web journal"},
 }
+# Each class of the interface so far, with its methods and the names of their arguments.
+CLASSES = {
+    "talks": ("Talk", "web", {
+        "known_open": "house", "known_asked": "house", "stands_by": "house", "post": "house", "waiting": "",
+        "deliver": "index", "lose": "index", "double": "index", "is_quiet": "", "network": "",
+    }),
+    "markets": ("Market", "web", {
+        "do": "deed", "web": "", "cancelled": "", "live_web": "", "best_for_buyers": "", "best_for_sellers": "",
+        "verdict": "network", "journal": "",
+    }),
+}
+# What returns an object with a state of its own.
+OBJECTS = ("replayed",)
+# What is asked for webs with few contracts only.
+FEW = ("gaining_chains", "all_at_rest", "all_settled")
 ERRORS = ("ContractError", "InvalidWeb", "NotSound", "BadText", "NoHouse", "NoContract", "NoLetter",
           "NothingToUndo", "NothingToRedo")
 
@@ -62,6 +82,7 @@ def calls(web):
         "choice": (choice,), "network": ((), half, network), "lot": (rest,), "one": (half, network),
         "other": (rest, network), "contracts": (half, everything[:1]), "offers": ((), everything, network),
         "stand": ((half, rest), top, bottom),
+        "journal": ((), [("cancel", 0), ("undo",)], (("choose", 0, ("sides", 0, (), 0, ())), ("cancel", 0))),
     }
     for module, functions in INTERFACE.items():
         for name, words in functions.items():
@@ -88,6 +109,17 @@ class InterfaceTest(unittest.TestCase):
                     self.assertEqual(" ".join(inspect.signature(function).parameters), words)
                     self.assertEqual(function.__module__, "nochaingains." + module)
 
+    def test_classes_and_their_methods(self):
+        for module, (name, words, methods) in CLASSES.items():
+            made = getattr(importlib.import_module("nochaingains." + module), name)
+            self.assertEqual(made.__module__, "nochaingains." + module)
+            self.assertEqual(" ".join(inspect.signature(made).parameters), words)
+            for method, arguments in methods.items():
+                with self.subTest(name + "." + method):
+                    # Defined in the class itself, not in a base class.
+                    function = vars(made)[method]
+                    self.assertEqual(" ".join(inspect.signature(function).parameters), ("self " + arguments).strip())
+
     def test_errors_are_defined_in_their_file(self):
         loaded = importlib.import_module("nochaingains.errors")
         for name in ERRORS:
@@ -106,14 +138,18 @@ class KindsOfResultsTest(unittest.TestCase):
             for function, row in calls(web):
                 before = copy.deepcopy(row)
                 result = function(*row)
-                self.assertTrue(fixed(result), (function.__name__, result))
                 self.assertEqual(row, before)
+                if function.__name__ in OBJECTS:
+                    continue
+                self.assertTrue(fixed(result), (function.__name__, result))
                 self.assertEqual(function(*before), result)
 
     def test_keywords(self):
         for function, row in calls(line_web()):
             names = list(inspect.signature(function).parameters)
-            self.assertEqual(function(**dict(zip(names, row))), function(*row))
+            result = function(**dict(zip(names, row)))
+            if function.__name__ not in OBJECTS:
+                self.assertEqual(result, function(*row))
 
     def test_true_and_false(self):
         names = ("is_sound", "is_steady", "is_kept", "lot_gains", "likes", "is_chain", "judge", "is_at_rest",
@@ -122,11 +158,12 @@ class KindsOfResultsTest(unittest.TestCase):
             self.assertEqual(isinstance(function(*row), bool), function.__name__ in names)
 
     def test_sets_are_in_order(self):
-        names = ("choose", "told_offers", "network_of", "buys_of", "sells_of", "mentioned")
+        names = ("choose", "told_offers", "network_of", "buys_of", "sells_of", "mentioned", "end_buyers",
+                 "end_sellers")
         webs = [random_web(seed, 4, 6) for seed in range(10)] + [layered_web(seed, 5, 4, 40) for seed in range(3)]
         for web in webs:
             for function, row in calls(web):
-                if function.__name__ == "gaining_chains":
+                if function.__name__ in FEW:
                     continue
                 if function.__name__ in names:
                     result = function(*row)
@@ -141,7 +178,7 @@ class BoundsTest(unittest.TestCase):
     def test_a_web_of_many_kinds(self):
         web = layered_web(5, 10, 3, 60)
         for function, row in calls(web):
-            if function.__name__ != "gaining_chains":
+            if function.__name__ not in FEW:
                 function(*row)
 
     def test_many_groups_and_parts(self):
@@ -151,7 +188,7 @@ class BoundsTest(unittest.TestCase):
         parts = tuple(("caps", tuple(range(3 * k, 3 * k + 3)), groups[4 * k:4 * k + 4], (), ()) for k in range(9))
         for choice in (caps, ("split", parts)):
             for function, row in calls(hub(30, 30, choice)):
-                if function.__name__ not in ("least_break", "least_unsteady", "gaining_chains"):
+                if function.__name__ not in FEW + ("least_break", "least_unsteady"):
                     function(*row)
 
 
