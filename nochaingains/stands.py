@@ -33,25 +33,26 @@ def network_of(stand):
 
 def best_for_buyers(web):
     """The greatest settled stand."""
-    return _settled_from(web, (all_contracts(web), ()))
+    return settled_from(web, (all_contracts(web), ()))
 
 
 def best_for_sellers(web):
     """The least settled stand."""
-    return _settled_from(web, ((), all_contracts(web)))
+    return settled_from(web, ((), all_contracts(web)))
 
 
 def join(web, one, other):
     """The least of the settled stands that both settled stands are at most."""
-    return _settled_from(web, (union(one[0], other[0]), common(one[1], other[1])))
+    return settled_from(web, (union(one[0], other[0]), common(one[1], other[1])))
 
 
 def meet(web, one, other):
     """The greatest of the settled stands that are at most each of the two settled ones."""
-    return _settled_from(web, (common(one[0], other[0]), union(one[1], other[1])))
+    return settled_from(web, (common(one[0], other[0]), union(one[1], other[1])))
 
 
-def _settled_from(web, stand):
+def settled_from(web, stand):
+    """The settled stand to which the next stands from the stand come, if they all go down or all go up."""
     following = next_stand(web, stand)
     while following != stand:
         stand = following

@@ -2,6 +2,7 @@
 
 from nochaingains.checks import check_choice, is_name
 from nochaingains.errors import InvalidWeb
+from nochaingains.rings import ring_upwards
 
 
 def check_web(web):
@@ -66,23 +67,11 @@ def ring_of(web):
     if left == []:
         return None
     # Each house that is left buys from one that is left, too, or it would be placed.
-    source = {}
+    steps = {}
     for number, (seller, buyer, _) in enumerate(contracts):
         if seller not in placed:
-            source[buyer] = number
-    return _ring_upwards(contracts, source, left[0])
-
-
-def _ring_upwards(contracts, source, house):
-    """Goes from buyer to seller until a house comes again; the ring that this closes."""
-    row = []
-    place = {}
-    while house not in place:
-        place[house] = len(row)
-        row.append(source[house])
-        house = contracts[source[house]][0]
-    ring = row[place[house]:]
-    return tuple(ring[::-1])
+            steps[buyer] = (number, seller)
+    return ring_upwards(steps, left[0])
 
 
 def sellers_first(web):

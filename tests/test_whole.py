@@ -46,6 +46,14 @@ INTERFACE = {
     },
     "money": {"profit": "web house network"},
     "stores": {"recovered": "disk"},
+    "seen": {
+        "explanation": "book", "refusal": "book", "is_right_refusal": "book clashes",
+        "maker_explanation": "book buys", "maker_refusal": "book buys",
+        "is_right_maker_refusal": "book buys clashes",
+    },
+    "lots": {"least_lot": "web network", "all_by_lots": "web"},
+    "parts": {"parts_of": "web", "part_web": "web part"},
+    "settling": {"settle_down": "web stand", "settle_up": "web stand"},
 }
 # Each class of the interface so far, with its methods and the names of their arguments.
 CLASSES = {
@@ -64,7 +72,11 @@ CLASSES = {
 # What returns an object with a state of its own.
 OBJECTS = ("replayed", "recovered")
 # What is asked for webs with few contracts only.
-FEW = ("gaining_chains", "all_at_rest", "all_settled", "sure_contracts", "possible_contracts")
+FEW = ("gaining_chains", "all_at_rest", "all_settled", "sure_contracts", "possible_contracts", "least_lot",
+       "all_by_lots")
+# Books that a list, a maker, or none of them explains.
+BOOKS = ((), (((0, 1, 2), (0, 2)), ((1,), (1,))), (((0, 1), (0,)), ((0, 1), (1,))), (((0, 1), (0, 1)),))
+CLASHES = ((), (("ring", ((0, 0), (1, 1))),) * 3, (("many", 0),), (("left", 0, 1, 1),) * 3)
 ERRORS = ("ContractError", "InvalidWeb", "NotSound", "BadText", "NoHouse", "NoContract", "NoLetter",
           "NothingToUndo", "NothingToRedo")
 
@@ -87,6 +99,7 @@ def calls(web):
     stands = importlib.import_module("nochaingains.stands")
     top, bottom = stands.best_for_buyers(web), stands.best_for_sellers(web)
     network = stands.network_of(top)
+    parts = importlib.import_module("nochaingains.parts").parts_of(web)
     values = {
         "web": (web,), "house": (house,), "text": (texts.write_web(web),), "offered": ((), half, everything),
         "choice": (choice,), "network": ((), half, network), "lot": (rest,), "one": (half, network),
@@ -95,12 +108,20 @@ def calls(web):
         "letters": ((), (("ask", 0), ("withdraw", 0)), (("ask", 0), ("ask", 0))),
         "disk": (((web, ()), ()), ((web, (0,)), (("choose", 0, ("sides", 0, (), 0, ())), ("undo",)))),
         "journal": ((), [("cancel", 0), ("undo",)], (("choose", 0, ("sides", 0, (), 0, ())), ("cancel", 0))),
+        "book": BOOKS, "buys": ((), (1,), (0, 2)), "clashes": CLASHES, "part": parts,
+    }
+    # What is asked only for some of the values, or for values that go together.
+    chosen = {
+        "join": [(web, top, bottom)], "meet": [(web, top, bottom)],
+        "settle_down": [(web, (everything, ())), (web, top)],
+        "settle_up": [(web, ((), everything)), (web, bottom)],
     }
     for module, functions in INTERFACE.items():
         for name, words in functions.items():
             function = getattr(importlib.import_module("nochaingains." + module), name)
-            if name in ("join", "meet"):
-                yield function, (web, top, bottom)
+            if name in chosen:
+                for row in chosen[name]:
+                    yield function, row
                 continue
             # The one gets a lot that gains, the other one an end house with few contracts.
             if name in ("chain_within", "least_lie"):
@@ -166,7 +187,7 @@ class KindsOfResultsTest(unittest.TestCase):
 
     def test_true_and_false(self):
         names = ("is_sound", "is_steady", "is_kept", "lot_gains", "likes", "is_chain", "judge", "is_at_rest",
-                 "is_settled", "is_right_derivation")
+                 "is_settled", "is_right_derivation", "is_right_refusal", "is_right_maker_refusal")
         for function, row in calls(busy_web(3, 4, 5)):
             self.assertEqual(isinstance(function(*row), bool), function.__name__ in names)
 
@@ -181,7 +202,8 @@ class KindsOfResultsTest(unittest.TestCase):
                 if function.__name__ in names:
                     result = function(*row)
                     self.assertEqual(list(result), sorted(set(result)))
-                if function.__name__ in ("next_stand", "best_for_buyers", "best_for_sellers", "join", "meet"):
+                if function.__name__ in ("next_stand", "best_for_buyers", "best_for_sellers", "join", "meet",
+                                         "settle_down", "settle_up"):
                     self.assertEqual(len(function(*row)), 2)
                     for part in function(*row):
                         self.assertEqual(list(part), sorted(set(part)))
