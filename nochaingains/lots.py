@@ -23,7 +23,8 @@ def all_by_lots(web):
 
 def _sets_in_order(contracts):
     """All sets of contracts within a set, in a list: fewer contracts first, then as tuples."""
+    row = list(contracts)
     found = []
-    for size in range(len(contracts) + 1):
-        found.extend(list(combinations(contracts, size)))
+    for size in range(len(row) + 1):
+        found.extend(list(combinations(row, size)))
     return found

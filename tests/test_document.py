@@ -47,7 +47,7 @@ class ExamplesTest(unittest.TestCase):
         self.run_all(EXAMPLES, 23)
 
     def test_readme(self):
-        self.run_all(README.read_text(), 28)
+        self.run_all(README.read_text(), 37)
 
     def run_all(self, text, many):
         test = doctest.DocTestParser().get_doctest(text, {}, "document", None, 0)

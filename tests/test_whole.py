@@ -6,9 +6,10 @@ import inspect
 import pathlib
 import unittest
 
-from tests.samples import busy_web, hub, layered_web, line_web, random_web
+from nochaingains import errors
+from tests.samples import FREE, busy_web, hub, layered_web, line_web, random_web
 
-# Each function of the interface so far, with the names of its arguments.
+# Each function of the interface, with the names of its arguments.
 INTERFACE = {
     "webs": {
         "check_web": "web", "ring_of": "web", "buys_of": "web house", "sells_of": "web house",
@@ -54,8 +55,13 @@ INTERFACE = {
     "lots": {"least_lot": "web network", "all_by_lots": "web"},
     "parts": {"parts_of": "web", "part_web": "web part"},
     "settling": {"settle_down": "web stand", "settle_up": "web stand"},
+    "ladders": {"web_of_ladder": "ladder"},
+    "deedtexts": {"write_journal": "deeds", "read_journal": "text"},
+    "mirrors": {"mirror_of": "web"},
+    "merging": {"merged": "web one other", "parted": "web house"},
+    "walks": {"step_from": "web network", "walk": "web network"},
 }
-# Each class of the interface so far, with its methods and the names of their arguments.
+# Each class of the interface, with its methods and the names of their arguments.
 CLASSES = {
     "talks": ("Talk", "web", {
         "known_open": "house", "known_asked": "house", "stands_by": "house", "post": "house", "waiting": "",
@@ -76,7 +82,12 @@ FEW = ("gaining_chains", "all_at_rest", "all_settled", "sure_contracts", "possib
        "all_by_lots")
 # Books that a list, a maker, or none of them explains.
 BOOKS = ((), (((0, 1, 2), (0, 2)), ((1,), (1,))), (((0, 1), (0,)), ((0, 1), (1,))), (((0, 1), (0, 1)),))
+LADDERS = (((), ()), ((("a", ("seller", 2, 3)), ("b", ("trader", 1, 0)), ("c", ("buyer", 1, 9))),
+                     ((0, 1, 2, 4), (1, 2, 5, 6), (0, 2, -1, -1))))
+DEEDS = (("choose", 0, ("split", (("table", ((1, 2),)), ("maker", 1, (), ())))), ("offer", 0, 1, -5), ("cancel", 3),
+         ("undo",), ("redo",))
 CLASHES = ((), (("ring", ((0, 0), (1, 1))),) * 3, (("many", 0),), (("left", 0, 1, 1),) * 3)
+HUGE = 10 ** 5000
 ERRORS = ("ContractError", "InvalidWeb", "NotSound", "BadText", "NoHouse", "NoContract", "NoLetter",
           "NothingToUndo", "NothingToRedo")
 
@@ -86,6 +97,23 @@ def fixed(value):
     if isinstance(value, tuple):
         return all(fixed(item) for item in value)
     return value is None or isinstance(value, (str, int, bool))
+
+
+def mergeable(web):
+    """Some pairs of houses that can be merged, in both orders."""
+    ring_of = importlib.import_module("nochaingains.webs").ring_of
+    found = []
+    for one in range(len(web[0])):
+        for other in range(one):
+            ends = [tuple(other if house == one else house for house in row[:2]) for row in web[1]]
+            if all(seller != buyer for seller, buyer in ends):
+                if ring_of((web[0], tuple(row + (0,) for row in ends))) is None:
+                    found += [(web, one, other), (web, other, one)]
+    return found[:6]
+
+
+def partable(web):
+    return [(web, house) for house, (_, choice) in enumerate(web[0]) if choice[0] == "split" and choice[1]]
 
 
 def calls(web):
@@ -109,12 +137,15 @@ def calls(web):
         "disk": (((web, ()), ()), ((web, (0,)), (("choose", 0, ("sides", 0, (), 0, ())), ("undo",)))),
         "journal": ((), [("cancel", 0), ("undo",)], (("choose", 0, ("sides", 0, (), 0, ())), ("cancel", 0))),
         "book": BOOKS, "buys": ((), (1,), (0, 2)), "clashes": CLASHES, "part": parts,
+        "ladder": LADDERS, "deeds": ((), DEEDS),
     }
     # What is asked only for some of the values, or for values that go together.
     chosen = {
         "join": [(web, top, bottom)], "meet": [(web, top, bottom)],
         "settle_down": [(web, (everything, ())), (web, top)],
         "settle_up": [(web, ((), everything)), (web, bottom)],
+        "read_journal": [("",), (importlib.import_module("nochaingains.deedtexts").write_journal(DEEDS),)],
+        "merged": mergeable(web), "parted": partable(web),
     }
     for module, functions in INTERFACE.items():
         for name, words in functions.items():
@@ -163,6 +194,72 @@ class InterfaceTest(unittest.TestCase):
         folder = pathlib.Path(importlib.import_module("nochaingains").__file__).parent
         self.assertTrue((folder / "__init__.py").is_file())
         self.assertEqual(list(folder.glob("**/test*")), [])
+
+
+class ErrorsTest(unittest.TestCase):
+    def refused(self, error, call, *row):
+        before = copy.deepcopy(row)
+        # Arguments are not told: Python refuses to write out very long integers.
+        with self.subTest(call.__name__, error=error.__name__):
+            with self.assertRaises(errors.ContractError) as caught:
+                call(*row)
+            # Of this very class, and with one string.
+            self.assertIs(type(caught.exception), error)
+            self.assertEqual([type(word) for word in caught.exception.args], [str])
+            self.assertEqual(row, before)
+
+    def test_webs(self):
+        check_web = importlib.import_module("nochaingains.webs").check_web
+        houses, contracts = line_web()
+        for wrong in (
+            ((("A", FREE),), ()), ((("", FREE),), ()), ((("a", FREE), ("a", FREE)), ()), (houses, ((0, 0, 5),)),
+            (houses, ((0, HUGE, 5),)), (houses, ((-HUGE, 0, 5),)), (houses, contracts + ((2, 0, HUGE),)),
+            ((("a", ("maker", -HUGE, (), ())),), ()), ((("a", ("table", ((HUGE,),))),), ()),
+            ((("a", ("sides", HUGE, (0,), 0, ())),), ()), ((("a", ("split", (("split", ()),))),), ()),
+            ((("a", ("caps", (), (((), HUGE),), (), ())),), ()), ((("a", ("trader", 0, HUGE, (-1,), ())),), ()),
+        ):
+            self.refused(errors.InvalidWeb, check_web, wrong)
+
+    def test_texts(self):
+        texts = importlib.import_module("nochaingains.texts")
+        read_journal = importlib.import_module("nochaingains.deedtexts").read_journal
+        for text in ("x", "house a table", "contract a b 5\n", "house a maker " + "1" * 61 + " buys sells\n", "undo\n", "\n"):
+            self.refused(errors.BadText, texts.read_web, text)
+        self.refused(errors.InvalidWeb, texts.read_web, "house a maker -1 buys sells\n")
+        for text in ("x", "undo", "house a table\n", "offer 0 1\n", "cancel " + "1" * 61 + "\n", "\n", "undo\n\n"):
+            self.refused(errors.BadText, read_journal, text)
+
+    def test_markets_and_stores(self):
+        for module, name in (("markets", "Market"), ("stores", "Store")):
+            made = getattr(importlib.import_module("nochaingains." + module), name)(hub(3, 0, FREE))
+            for error, deed in (
+                (errors.NothingToUndo, ("undo",)), (errors.NothingToRedo, ("redo",)),
+                (errors.NoHouse, ("choose", 3, ("maker", -1, (), ()))), (errors.NoHouse, ("choose", -HUGE, FREE)),
+                (errors.InvalidWeb, ("choose", 0, ("maker", -1, (), ()))),
+                (errors.InvalidWeb, ("choose", 0, ("table", ((0, 1), (HUGE,))))),
+                (errors.NotSound, ("choose", 0, ("table", ((0, 1), (2,))))),
+                (errors.NoHouse, ("offer", 0, 3, 5)), (errors.NoHouse, ("offer", HUGE, HUGE, 5)),
+                (errors.InvalidWeb, ("offer", 0, 0, 5)), (errors.InvalidWeb, ("offer", 0, 1, HUGE)),
+                (errors.NoContract, ("cancel", 3)), (errors.NoContract, ("cancel", -1)), (errors.NoContract, ("cancel", HUGE)),
+            ):
+                self.refused(error, made.do, deed)
+        replayed = importlib.import_module("nochaingains.markets").replayed
+        self.refused(errors.NoContract, replayed, line_web(), (("cancel", 0), ("cancel", 0), ("redo",)))
+
+    def test_talks(self):
+        talk = importlib.import_module("nochaingains.talks").Talk(line_web())
+        for call in (talk.deliver, talk.lose, talk.double):
+            for index in (0, -1, HUGE, -HUGE):
+                self.refused(errors.NoLetter, call, index)
+
+    def test_merging(self):
+        merging = importlib.import_module("nochaingains.merging")
+        web = line_web()
+        for one, other in ((0, 1), (1, 0), (0, 2), (2, 0)):
+            self.refused(errors.InvalidWeb, merging.merged, web, one, other)
+        for house in range(3):
+            self.refused(errors.InvalidWeb, merging.parted, web, house)
+        self.refused(errors.InvalidWeb, merging.parted, ((("a", ("split", ())),), ()), 0)
 
 
 class KindsOfResultsTest(unittest.TestCase):
